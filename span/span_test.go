@@ -170,6 +170,7 @@ func TestRightFar(t *testing.T) {
 	}{
 		{nil, 0, true},
 		{nil, m, true},
+		{nil, -1, true}, // there is none that is wrong
 		{[]api.Span{}, 7, true},
 		{[]api.Span{{From: 0, To: m}}, m, true},
 		{[]api.Span{{From: 0, To: m}}, m - 1, false},
